@@ -71,7 +71,7 @@ func TakeText(p []byte, most int) ([]byte, []byte, api.Errno) {
 	case n > uint64(len(rest)):
 		return nil, slices.Clip(p), api.ErrShort
 	}
-	return bytes.Clone(rest[:n]), rest[n:], api.OK
+	return slices.Clip(bytes.Clone(rest[:n])), rest[n:], api.OK
 }
 
 // LayFixed appends n to p in eight bytes, the highest first.

@@ -1,6 +1,7 @@
 package event_test
 
 import (
+	"bytes"
 	"encoding/binary"
 	"fmt"
 	"math"
@@ -476,5 +477,25 @@ func TestMemory(t *testing.T) {
 	whole[1] = 'W'
 	if string(plain.Text) != "Pi" || string(x.Text) != "Xi" {
 		t.Errorf("%q, %q", plain.Text, x.Text)
+	}
+}
+
+// TestTextsMayBeAppendedTo is the rule on memory: what is appended to the text of an event stays, whatever is appended to that of a copy.
+func TestTextsMayBeAppendedTo(t *testing.T) {
+	for n := range 70 {
+		e := full(api.Set)
+		e.Text = bytes.Repeat([]byte("t"), n)
+		x, err := event.Decode(event.Encode(e))
+		if err != api.OK {
+			t.Fatal(err)
+		}
+		for _, x := range []api.Event{x, event.Plain(e)} {
+			copied := x
+			a := append(x.Text, 'a')
+			_ = append(copied.Text, 'b')
+			if a[n] != 'a' {
+				t.Errorf("the letter behind %d others became %c", n, a[n])
+			}
+		}
 	}
 }
