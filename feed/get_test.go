@@ -5,6 +5,7 @@ import (
 	"testing"
 
 	"anabranch/api"
+	"anabranch/disk"
 	"anabranch/feed"
 )
 
@@ -39,6 +40,27 @@ func TestAnswers(t *testing.T) {
 		wantFeed(t, f, 4, 40, f.Segments(), l[4:]...)
 		wantFeed(t, opened(t, d, size, 4, 40), 4, 40, f.Segments(), l[4:]...)
 	}
+}
+
+// TestZeroIsNoNumber: events are numbered from 1 on, so there is no event 0, whatever is folded; it is not above the floor, either,
+// but ErrNone is the lower error.
+func TestZeroIsNoNumber(t *testing.T) {
+	const n = 5
+	for _, size := range []int{0, sizeOf(1, 2), large} {
+		for floor := range uint64(n + 1) {
+			f, d := begun(t, size, run(1, n)...)
+			wantNone(t, f, 0, api.ErrNone)
+			wantError(t, "Fold", f.Fold(floor, 10*floor), api.OK)
+			for _, f := range []*feed.Feed{f, opened(t, d, size, floor, 10*floor)} {
+				wantNone(t, f, 0, api.ErrNone)
+				for seq := uint64(1); seq <= floor; seq++ {
+					wantNone(t, f, seq, api.ErrFolded)
+				}
+				wantNone(t, f, n+1, api.ErrNone)
+			}
+		}
+	}
+	wantNone(t, opened(t, disk.New(wide), 0, 0, 0), 0, api.ErrNone)
 }
 
 // TestRangeOverSegments: a range may begin and end in any of them.

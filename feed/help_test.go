@@ -164,8 +164,9 @@ func wantFeed(t *testing.T, f *feed.Feed, floor, time uint64, segments int, l ..
 			f.Sealed(), f.Segments(), floor, next, time, retired, segments)
 	}
 	wantEvents(t, "All", f.All(), l)
-	for _, n := range []uint64{0, 1, floor / 2, floor - 1, floor, api.End, math.MaxUint64} {
-		if n <= floor {
+	wantNone(t, f, 0, api.ErrNone)
+	for _, n := range []uint64{1, floor / 2, floor - 1, floor, api.End, math.MaxUint64} {
+		if n > 0 && n <= floor {
 			wantNone(t, f, n, api.ErrFolded)
 		}
 	}
